@@ -1,0 +1,1 @@
+"""Reflows: lines wrapped, joined and quoted again and again."""
