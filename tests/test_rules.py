@@ -22,6 +22,48 @@ FUNCTIONS = {
         "place_of": "(text, index)", "page": "(text)", "read_page": "(page)", "write_text": "(text)",
         "read_text": "(writing)",
     },
+    "steps": {"is_step": "(value)", "read_step": "(text)"},
+    "chains": {"read_chain": "(text)"},
+}
+
+STEP_METHODS = {
+    "__call__": "(self, text)", "__str__": "(self)", "__eq__": "(self, other)", "begin": "(self)",
+    "read": "(self, state, mark, length)", "reach": None,
+}
+
+# For each file its classes, and for each class its methods with their arguments, None for a property.
+CLASSES = {
+    "steps": {
+        "Wrap": {"__init__": "(self, width, indent='same')", **STEP_METHODS},
+        "Group": {"__init__": "(self, most)", **STEP_METHODS},
+        "Alone": {"__init__": "(self, longest)", **STEP_METHODS},
+        "Join": {"__init__": "(self, kinds)", **STEP_METHODS},
+        "Turn": {"__init__": "(self, kinds, kind)", **STEP_METHODS},
+        "Align": {"__init__": "(self, kinds, indent)", **STEP_METHODS},
+        "Shift": {"__init__": "(self, by)", **STEP_METHODS},
+        "Hang": {"__init__": "(self, by)", **STEP_METHODS},
+    },
+    "chains": {
+        "Chain": {
+            "__init__": "(self, steps=())", "steps": "(self)", "__len__": "(self)", "__getitem__": "(self, index)",
+            "__iter__": "(self)", "__add__": "(self, other)", "without": "(self, index)", **STEP_METHODS,
+        },
+    },
+    "stocks": {
+        "Stock": {
+            "__init__": "(self, marks, *, shortest=1, longest=4)", "marks": "(self)", "lengths": "(self)",
+            "__eq__": "(self, other)", "letters": "(self)", "first_letters": "(self)", "__len__": "(self)",
+            "__contains__": "(self, value)", "holds": "(self, text)", "__and__": "(self, other)",
+            "__or__": "(self, other)", "within": "(self, other)", "amount": "(self, many)", "texts": "(self, many)",
+            "text_at": "(self, many, number)", "number_of": "(self, text)", "__str__": "(self)", "parse": "(cls, text)",
+        },
+    },
+    "machines": {
+        "Machine": {
+            "__init__": "(self, chain, stock)", "__len__": "(self)", "__eq__": "(self, other)", "letters": "(self)",
+            "read": "(self, state, mark, length)", "run": "(self, text)", "shortest": "(self, state)",
+        },
+    },
 }
 
 LIBRARY = {
@@ -38,6 +80,11 @@ BUILTINS = set((
 ).split())
 
 UNUSED_NAMES = {"register", "mro", "elements", "open", "input", "law", "version_info", "with_traceback", "add_note"}
+
+# The double-underscore methods that L5 allows and that are used so far.
+DOUBLE = set((
+    "__init__ __eq__ __str__ __repr__ __len__ __call__ __iter__ __add__ __and__ __or__ __contains__ __getitem__"
+).split())
 
 BARRED = (
     ast.Global, ast.AsyncFunctionDef, ast.AsyncFor, ast.AsyncWith, ast.Await, ast.Div, ast.MatMult, ast.Import,
@@ -62,6 +109,23 @@ class InterfaceTest(unittest.TestCase):
                 found = getattr(loaded, name)
                 self.assertEqual(found.__module__, "reflows." + module)
                 self.assertEqual(str(inspect.signature(found)), arguments, name)
+
+    def test_the_classes_are_defined_where_the_interface_lists_them(self):
+        for module, classes in CLASSES.items():
+            loaded = importlib.import_module("reflows." + module)
+            for name, methods in classes.items():
+                self.assertEqual(getattr(loaded, name).__module__, "reflows." + module)
+                for method, arguments in methods.items():
+                    self.check_method(vars(getattr(loaded, name))[method], arguments)
+
+    def check_method(self, found, arguments):
+        if arguments is None:
+            self.assertIsInstance(found, property)
+            return
+        if arguments.startswith("(cls"):
+            self.assertIsInstance(found, classmethod)
+            found = found.__func__
+        self.assertEqual(str(inspect.signature(found)), arguments, found)
 
     def test_lines_is_a_generator(self):
         self.assertTrue(inspect.isgeneratorfunction(importlib.import_module("reflows.texts").lines))
@@ -134,8 +198,45 @@ class RuleTest(unittest.TestCase):
                     self.assertNotIsInstance(node.value, (float, complex))
                     self.assertFalse(isinstance(node.value, str) and "%" in node.value, path)
 
+    def test_double_underscore_methods_stand_in_classes(self):
+        for path in files():
+            for node in nodes(path):
+                if isinstance(node, ast.FunctionDef) and node.name.startswith("__"):
+                    self.assertIn(node.name, DOUBLE, path)
+            for node in ast.parse(path.read_text(encoding="utf-8")).body:
+                self.assertFalse(getattr(node, "name", "").startswith("__"), path)
+
+    def test_no_generator_expressions_beside_classes_that_compare(self):
+        for path in files():
+            for node in nodes(path):
+                self.assertNotIsInstance(node, ast.GeneratorExp, path)
+
+    def test_what_is_imported_is_used(self):
+        for path in files():
+            imported = []
+            used = set()
+            for node in nodes(path):
+                if isinstance(node, ast.ImportFrom):
+                    imported += [alias.name for alias in node.names]
+                if isinstance(node, ast.Name):
+                    used.add(node.id)
+            self.assertLessEqual(set(imported), used, path)
+
+    def test_no_two_files_import_each_other(self):
+        above = {}
+        for path in files():
+            found = [node.module for node in nodes(path) if isinstance(node, ast.ImportFrom)]
+            above["reflows." + path.stem] = [module for module in found if module.startswith("reflows.")]
+        left = dict(above)
+        while left:
+            free = [module for module in left if not [name for name in left[module] if name in left]]
+            self.assertNotEqual(free, [], left)
+            for module in free:
+                del left[module]
+
     def test_names(self):
-        known = set(dir(builtins))
+        # A doctest that has run keeps its last value as a builtin of this name.
+        known = set(dir(builtins)) - {"_"}
         for path in files():
             for node in nodes(path):
                 if isinstance(node, ast.Name):
