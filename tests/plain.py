@@ -1,14 +1,11 @@
 """Plain readings of the points about all texts: over all texts with few words, and by the words of [3]."""
 
 import copy
-import itertools
 import random
 
 from reflows.chains import Chain, read_chain
-from reflows.machines import Machine
 from reflows.steps import Wrap
 from reflows.stocks import Stock
-from reflows.words import all_marks
 from tests.helper import ALIGN_KINDS, ODD_VALUES, check_raises, plain_run
 
 NO_CHAINS = ODD_VALUES + [0, "-", "wrap 5 same", Wrap(5), [Wrap(5)], (Wrap(5),), [Chain()], Stock(["#0"])]
@@ -182,13 +179,3 @@ def state_behind(machine, text, state=0):
     for mark, word in text:
         state = machine.read(state, mark, len(word))[1]
     return state
-
-
-def any_marks(many):
-    """Return all rows of so many marks, the first one of the kind #."""
-    return list(itertools.product(*([all_marks()[1:5]] + [all_marks()] * (many - 1))[:many]))
-
-
-def machine_of(writing, stock):
-    """Return the least machine of a chain with a writing."""
-    return Machine(read_chain(writing), stock)

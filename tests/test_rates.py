@@ -13,7 +13,7 @@ from reflows.stocks import Stock
 from reflows.texts import marks_of, widths
 from tests.helper import NO_TEXTS, ODD_VALUES, tupled
 from tests.plain import (
-    LARGE_STOCK, LARGE_WRITINGS, NO_CHAINS, NO_STOCKS, STOCKS, check_arguments, check_wrong_arguments, done, few_texts,
+    LARGE_STOCK, LARGE_WRITINGS, NO_CHAINS, NO_STOCKS, check_arguments, check_wrong_arguments, done, few_texts,
     only_letters_a, reads_of, small_cases, some_texts, state_behind,
 )
 

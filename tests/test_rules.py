@@ -24,7 +24,35 @@ FUNCTIONS = {
     },
     "steps": {"is_step": "(value)", "read_step": "(text)"},
     "chains": {"read_chain": "(text)"},
+    "comparisons": {
+        "alike": "(one, other, stock)", "settles": "(chain, stock)", "exchange": "(one, other, stock)",
+        "swallows": "(one, other, stock)", "idle_steps": "(chain, stock)", "fewest_steps": "(chain, stock)",
+    },
+    "backs": {
+        "takes_back": "(back, chain, stock, *, made_by=None)", "restores": "(back, chain, stock)",
+        "confused": "(chain, stock)", "never_told": "(chain, stock)", "origins": "(chain, stock)",
+        "origin_text": "(chain, stock, made, mark)", "powers": "(chain, stock, *, most=3)",
+    },
+    "rates": {
+        "widest": "(chain, stock)", "widest_paper": "(chain, stock)", "line_share": "(chain, stock, *, most=False)",
+        "share_paper": "(chain, stock, *, most=False)", "is_share_paper": "(chain, stock, value, *, most=False)",
+    },
+    "ripples": {
+        "ripple": "(chain, stock, change)", "ripple_paper": "(chain, stock, change)", "stops": "(chain, stock)",
+        "meeting": "(chain, stock)",
+    },
+    "sayings": {
+        "is_pattern": "(value)", "pattern_places": "(text, pattern)", "comes": "(pattern, chain, stock)",
+        "never_paper": "(pattern, chain, stock)", "is_never_paper": "(pattern, chain, stock, value)",
+    },
+    "toldback": {"least_source": "(stock, chain, text)"},
 }
+
+# For each file the generators, with the class of those that are methods.
+GENERATORS = [
+    ("texts", None, "lines"), ("stocks", "Stock", "texts"), ("sayings", None, "pattern_places"),
+    ("toldback", "Sources", "each"),
+]
 
 STEP_METHODS = {
     "__call__": "(self, text)", "__str__": "(self)", "__eq__": "(self, other)", "begin": "(self)",
@@ -62,6 +90,21 @@ CLASSES = {
         "Machine": {
             "__init__": "(self, chain, stock)", "__len__": "(self)", "__eq__": "(self, other)", "letters": "(self)",
             "read": "(self, state, mark, length)", "run": "(self, text)", "shortest": "(self, state)",
+        },
+    },
+    "toldback": {
+        "Sources": {
+            "__init__": "(self, stock, reports)", "amount": "(self)", "each": "(self)", "source_at": "(self, number)",
+            "marks_at": "(self, index)", "sure": "(self)", "often": "(self, index, mark)",
+            "with_report": "(self, chain, text)", "__contains__": "(self, value)",
+        },
+    },
+    "desk": {
+        "Desk": {
+            "__init__": "(self)", "names": "(self)", "__getitem__": "(self, name)", "__eq__": "(self, other)",
+            "put": "(self, name, chain)", "drop": "(self, name)", "use": "(self, stock)", "write": "(self, text)",
+            "apply": "(self, name)", "undo": "(self)", "redo": "(self)", "copied": "(self)", "run": "(self, line)",
+            "run_all": "(self, lines)", "text": None,
         },
     },
 }
@@ -127,8 +170,26 @@ class InterfaceTest(unittest.TestCase):
             found = found.__func__
         self.assertEqual(str(inspect.signature(found)), arguments, found)
 
-    def test_lines_is_a_generator(self):
-        self.assertTrue(inspect.isgeneratorfunction(importlib.import_module("reflows.texts").lines))
+    def test_generators(self):
+        for module, owner, name in GENERATORS:
+            held = importlib.import_module("reflows." + module)
+            found = getattr(getattr(held, owner) if owner else held, name)
+            self.assertTrue(inspect.isgeneratorfunction(found), name)
+
+    def test_no_other_function_yields_under_a_name_that_stands_twice(self):
+        names, yielding = [], set()
+        for path in files():
+            for node in nodes(path):
+                if isinstance(node, ast.FunctionDef):
+                    names.append(node.name)
+                    if any([isinstance(inner, (ast.Yield, ast.YieldFrom)) for inner in ast.walk(node)]):
+                        yielding.add(node.name)
+        self.assertEqual([name for name in yielding if names.count(name) > 1], [])
+        self.assertLessEqual({name for _, _, name in GENERATORS}, yielding)
+
+    def test_a_desk_holds_its_attributes(self):
+        desk = importlib.import_module("reflows.desk").Desk()
+        self.assertEqual([str(desk.stock), desk.text], ["_ #0 |0 /0 : 1 4", []])
 
 
 class FolderTest(unittest.TestCase):
@@ -233,6 +294,23 @@ class RuleTest(unittest.TestCase):
             self.assertNotEqual(free, [], left)
             for module in free:
                 del left[module]
+
+    def test_objects_are_compared_by_is_with_none_and_truths_alone(self):
+        for path in files():
+            for node in nodes(path):
+                if isinstance(node, ast.Compare) and isinstance(node.ops[0], (ast.Is, ast.IsNot)):
+                    right = node.comparators[0]
+                    self.assertTrue(isinstance(right, ast.Constant) and right.value in (None, True, False), path)
+
+    def test_no_method_has_the_name_of_an_attribute(self):
+        methods, attributes = set(), set()
+        for path in files():
+            for node in nodes(path):
+                if isinstance(node, ast.ClassDef):
+                    methods |= {inner.name for inner in node.body if isinstance(inner, ast.FunctionDef)}
+                if isinstance(node, ast.Attribute) and isinstance(node.ctx, ast.Store):
+                    attributes.add(node.attr)
+        self.assertEqual(methods & attributes, set())
 
     def test_names(self):
         # A doctest that has run keeps its last value as a builtin of this name.
