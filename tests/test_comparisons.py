@@ -114,6 +114,12 @@ class StepsTest(unittest.TestCase):
             self.assertEqual(idle_steps(read_chain(writing), stock), idle, writing)
             self.assertEqual(str(fewest_steps(read_chain(writing), stock)), fewest or writing)
 
+    def test_one_step_behind_two_that_do_the_same(self):
+        stock = Stock(["#1", " "], longest=1)
+        chain = read_chain("shift 1; shift 1; shift 3")
+        self.assertEqual(str(fewest_steps(chain, stock)), "shift 3")
+        self.check_fewest("shift 1; shift 1; shift 3", stock)
+
     def test_a_step_that_stands_twice(self):
         stock = Stock(["#0", " ", "|0"], longest=2)
         self.assertEqual(idle_steps(read_chain("join |; join |"), stock), [0, 1])

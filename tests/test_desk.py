@@ -157,6 +157,9 @@ class EditTest(unittest.TestCase):
         desk.undo()
         self.assertEqual(desk.stock, FIRST_STOCK)
 
+    def test_a_desk_is_not_gone_through(self):
+        self.assertRaises(TypeError, list, edited())
+
     def test_apply(self):
         desk = Desk()
         for number, (writing, stock) in enumerate(small_cases(30)):

@@ -79,6 +79,12 @@ class WidestTest(unittest.TestCase):
             self.assertEqual(widest(read_chain(writing), stock), None, writing)
             self.check_widest(writing, stock, [])
 
+    def test_a_ring_that_is_read_from_its_own_state_alone(self):
+        for writing, text in [("wrap 7 1; join |", "_ #0 #3 |1 : 1 2"), ("wrap 3 1; join |; shift 1", "_ #2 |0 |1 : 1 2"),
+                              ("wrap 7 3; join |", "_ #1 |0 : 2 4"), ("wrap 3 0; join |; turn |/ /", "_ #2 |0 : 1 3"),
+                              ("wrap 4 3; wrap 6 same; join |", "_ #2 |1 /2 : 1 2"), ("wrap 7 1; join |", "_ #2 |0 : 2 4")]:
+            self.check_widest(writing, Stock.parse(text), [])
+
     def test_lines_with_a_greatest_width(self):
         stock = Stock(["#3", " ", "|1", "/0"], shortest=2, longest=3)
         for writing, width in [("wrap 8 same", 8), ("wrap 7 same", 7), ("wrap 1 0", 6), ("group 1", 6), ("group 3", 14),
@@ -227,6 +233,15 @@ class PaperTest(unittest.TestCase):
             ([("#0", "aa")] * 9 + text, ring, heights),
         ]:
             self.check(value, True)
+
+    def test_a_ring_behind_the_text_without_tokens(self):
+        # Nothing leads back to the first state, though all blanks would make no breaks there.
+        chain, stock = read_chain("join /"), Stock(["#0", " "], longest=2)
+        _, ring, heights = share_paper(chain, stock)
+        for tokens in (ring, [(" ", "a")], [(" ", "aa")] * 3, [("#0", "a")]):
+            self.assertIs(is_share_paper(chain, stock, ([], tokens, heights)), False)
+            self.assertIs(is_share_paper(chain, stock, ((), tokens, [0] * len(heights))), False)
+        self.assertIs(is_share_paper(chain, stock, ([("#0", "a")], [(" ", "a")], heights)), True)
 
     def test_heights_with_any_integers(self):
         text, ring, heights = self.paper

@@ -171,6 +171,15 @@ class SourcesTest(unittest.TestCase):
             self.assertEqual(self.check_sources(STOCK, ["-"], [text]), 0)
         self.assertEqual(self.check_sources(STOCK, ["shift 1"], [[("#1", "a"), ("/1", "a")]]), 1)
 
+    def test_sources_begin_with_a_paragraph_though_other_breaks_become_one(self):
+        stock = Stock(["#0", " ", "/0", "|1"], longest=2)
+        for writing in ("turn / #", "turn |/ #; align # 0", "group 1; turn / #"):
+            for words in (1, 2, 3):
+                text = [("#0", "a")] * words
+                self.check_sources(stock, [writing], [text])
+                self.check_sources(stock, [writing, "align #|/ 0; turn |/ #"], [text, text])
+        self.assertEqual(Sources(stock, [(read_chain("turn / #"), [("#0", "a")])]).amount(), 1)
+
     def test_where_there_are_no_sources(self):
         told = Sources(STOCK, [(read_chain("join /"), MADE)])
         self.assertEqual([told.amount(), list(told.each()), told.sure()], [0, [], []])
